@@ -1,0 +1,1 @@
+"""Wheelwritten: writing the places of a wheel by dials."""
