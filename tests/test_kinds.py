@@ -53,9 +53,9 @@ class Kinds(Case):
             self.same(is_board(thing), False)
 
     def test_board_beyond_limits(self):
-        board = (10 ** 99, ((2, 1),) * 1600)
+        board = (10 ** 99, ((2, 1),) * 800)
         self.same(is_board(board), True)
-        self.same(lets_board(board), (10 ** 99, 1600))
+        self.same(lets_board(board), (10 ** 99, 800))
 
     def test_board_shape(self):
         for thing in (None, 12, True, "ab", (), (12,), (12, (), ()), [12, ()], (12, (), None)):

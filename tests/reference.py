@@ -1,0 +1,129 @@
+"""What the document defines, computed from lists of all settings or from the words of the definitions."""
+
+import itertools
+import math
+
+from tests.common import settings, table
+
+
+def written_in(board):
+    """The list of the settings of the places of a small numbering."""
+    return [found[0] for _, found in sorted(table(board).items())]
+
+
+def carries(board):
+    texts = written_in(board)
+    return [texts[many * weight % board[0]] for many, weight in board[1]]
+
+
+def hands(board, all_carries):
+    return [[j for j, figure in enumerate(carry) if figure > 0] for carry in all_carries]
+
+
+def reach(hand_lists):
+    """The sets of the dials below each dial, by rows of one handing or more."""
+    found = []
+    for dial in range(len(hand_lists)):
+        seen, todo = set(), list(hand_lists[dial])
+        while todo:
+            now = todo.pop()
+            if now not in seen:
+                seen.add(now)
+                todo.extend(hand_lists[now])
+        found.append(tuple(sorted(seen)))
+    return tuple(found)
+
+
+def heights(reached):
+    """The most steps of a row of reaching that ends at each dial."""
+    def height(dial):
+        return max([height(other) + 1 for other in range(len(reached)) if dial in reached[other]], default=0)
+    return tuple(height(dial) for dial in range(len(reached)))
+
+
+def full_at(board, dial, many):
+    size, weight = board[1][dial]
+    return size * math.gcd(weight, many) == many
+
+
+def is_whole(board, sequence):
+    left = board[0]
+    for dial in sequence:
+        if not full_at(board, dial, left):
+            return False
+        left //= board[1][dial][0]
+    return left == 1 and len(sequence) == len(board[1])
+
+
+def whole_layings(board):
+    return [sequence for sequence in itertools.permutations(range(len(board[1]))) if is_whole(board, sequence)]
+
+
+def is_blind(board, many):
+    """Whether no dial has "many divides range times weight, and not weight"."""
+    return not any(size * weight % many == 0 and weight % many for size, weight in board[1])
+
+
+def one_round(board, all_carries, totals):
+    new = [total % many for total, (many, _) in zip(totals, board[1])]
+    for total, (many, _), carry in zip(totals, board[1], all_carries):
+        new = [now + total // many * figure for now, figure in zip(new, carry)]
+    return tuple(new)
+
+
+def rounds(board, all_carries, totals):
+    """The rows of totals, and the number of the last round in which something is handed."""
+    rows, last = [totals], 0
+    while any(total >= many for total, (many, _) in zip(rows[-1], board[1])):
+        if any(total >= many and any(carry) for total, (many, _), carry in zip(rows[-1], board[1], all_carries)):
+            last = len(rows)
+        rows.append(one_round(board, all_carries, rows[-1]))
+    return tuple(rows), last
+
+
+def exponent(many, prime):
+    count = 0
+    while many % prime == 0:
+        many //= prime
+        count += 1
+    return count
+
+
+def primes_of(many):
+    return [p for p in range(2, many + 1) if many % p == 0 and all(p % k for k in range(2, p))]
+
+
+def levels_of_dial(many, weight):
+    found = []
+    for prime in primes_of(many):
+        low = exponent(weight, prime)
+        found += [(prime, level) for level in range(low + 1, low + exponent(many, prime) + 1)]
+    return found
+
+
+def wheel_levels(wheel):
+    return [(prime, level) for prime in primes_of(wheel) for level in range(1, exponent(wheel, prime) + 1)]
+
+
+def factorings(many):
+    """All tuples of integers of at least 2 with this product."""
+    if many == 1:
+        yield ()
+    for first in range(2, many + 1):
+        if many % first == 0:
+            for rest in factorings(many // first):
+                yield (first,) + rest
+
+
+def can_be_filled(board):
+    """Whether some dials behind make the board a numbering, by trying all of them."""
+    wheel, dials = board
+    own = math.prod(many for many, _ in dials)
+    if wheel % own:
+        return False
+    for ranges in factorings(wheel // own):
+        for weights in itertools.product(range(wheel), repeat=len(ranges)):
+            new = (wheel, dials + tuple(zip(ranges, weights)))
+            if len({sum(f * w for f, (_, w) in zip(s, new[1])) % wheel for s in settings(new)}) == wheel:
+                return True
+    return False
