@@ -49,6 +49,9 @@ class Boards(Case):
         thrice = (6, ((2, 1), (3, 2), (3, 2)))
         self.same([is_same_board(twice, twice, False), is_same_board(twice, twice, True)], [True, True])
         self.same([is_same_board(twice, other, False), is_same_board(twice, other, True)], [False, True])
+        mixed = (6, ((2, 1), (3, 2), (2, 1)))
+        self.same([is_same_board(other, mixed, True), is_same_board(mixed, other, True), is_same_board(other, mixed, False),
+                   is_same_board(other, thrice, True)], [True, True, False, False])
         self.same([is_same_board(twice, thrice, False), is_same_board(twice, thrice, True)], [False, False])
         self.same([is_same_board((6, ()), (5, ()), False), is_same_board((6, ()), (5, ()), True)], [False, False])
         self.same([is_same_board((7, twice[1]), other, True), is_same_board(SIX, RESTS, True)], [False, False])

@@ -107,7 +107,8 @@ class FaultChecker(Case):
     def test_shape(self):
         for thing in NO_TUPLES + (("product",), ("blind",), ("twice",), ("twice", (0, 0)), ("product", 6, 6), ("blind", 6, 6),
                                   ("twice", (1, 0), (0, 1), 0), ["blind", 6], ("Blind", 6), ("zero", 6), (6, "blind"), (True, 6),
-                                  (("blind",), 6), (None, 6), (["blind"], 6), ((), 6), ("", 6), ((),), "blind", "product"):
+                                  (("blind",), 6), (None, 6), (["blind"], 6), ((), 6), ("", 6), ((),), "blind", "product", ("",), ("zero",), ("other", 1, 2), (6,),
+                                  (None,), ("productblind", 6), (("product", 6),)):
             self.rejects("shape", -1, lets_fault, SIX, thing)
         self.rejects("shape", -1, lets_fault, SIX, ())
 

@@ -201,7 +201,8 @@ class FillChecker(Case):
     def test_nofilling_shape(self):
         for thing in NO_TUPLES + ((), ("zero",), ("zero", 0, 0), ("level", 0, 2), ("level", 0, 2, 1, 1), ("shared", 0, 1, 2),
                                   ("shared", 0, 1, 2, 1, 1), ("full",), ("full", ("blind", 6), 0), ["zero", 0], ("Zero", 0),
-                                  ("blind", 6), (True, 0), (0, "zero"), (("zero",), 0), (["zero"], 0), (None, 0), "full", ("", 0)):
+                                  ("blind", 6), (True, 0), (0, "zero"), (("zero",), 0), (["zero"], 0), (None, 0), "full", ("", 0), ("",), ("other",), (0,), ("blind", (0, 0), (0, 1)),
+                                  (("full", ("blind", 6)),)):
             self.rejects("shape", -1, lets_nofilling, SIX, thing)
 
     def test_nofilling_zero(self):

@@ -42,7 +42,7 @@ class BoardLines(Reads):
             self.wrong(0, read_board, text)
 
     def test_wheel_word(self):
-        for word in ("", "12", ":", "0:", "012:", "00:", "-1:", "+1:", "1 :", "12::", "12;", "x:", "1_2:", "1.0:", "12:2@6", ":12",
+        for word in ("", "12", ":", "0:", "012:", "00:", "-1:", "+1:", "1 :", "12::", "12;", "x:", "X:", "1X:", "1_2:", "1.0:", "12:2@6", ":12",
                      "0x1:", "1e1:"):
             self.wrong(1, read_board, "wheel " + word)
             self.wrong(1, read_board, "wheel " + word + " 2@0")
@@ -51,7 +51,7 @@ class BoardLines(Reads):
 
     def test_dial_words(self):
         for word in ("", "2", "@", "2@", "@1", "2@12", "2@13", "1@1", "0@1", "02@1", "2@01", "2@00", "-2@1", "2@-1", "+2@1", "2@1@1",
-                     "2@@1", "2;1", "2@x", "x@1", "2@1:", "2@1,", "1_0@1", "2@1_0", "1@12", "2.0@1", "(2@1)"):
+                     "2@@1", "2;1", "2@x", "x@1", "2@X", "X@1", "1A@1", "2@1:", "2@1,", "1_0@1", "2@1_0", "1@12", "2.0@1", "(2@1)"):
             self.wrong(2, read_board, "wheel 12: " + word)
             self.wrong(3, read_board, "wheel 12: 2@11 " + word)
             self.wrong(3, read_board, "wheel 12: 2@11 " + word + " 1@1")

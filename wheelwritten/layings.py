@@ -17,12 +17,15 @@ def _wholes_behind(numbering, taken, left):
     if len(taken) == len(dials):
         yield taken
     for dial in _next_dials(numbering, taken, left):
-        yield from _wholes_behind(numbering, taken + (dial,), left // dials[dial][0])
+        longer = taken + (dial,)
+        rest = left // dials[dial][0]
+        yield from _wholes_behind(numbering, longer, rest)
 
 
 def all_layings(numbering):
     """A generator of the whole layings, ascending."""
-    yield from _wholes_behind(numbering, (), numbering[0])
+    wheel = numbering[0]
+    yield from _wholes_behind(numbering, (), wheel)
 
 
 def _ways_behind(numbering, taken, left, known):
