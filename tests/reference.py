@@ -127,3 +127,58 @@ def can_be_filled(board):
             if len({sum(f * w for f, (_, w) in zip(s, new[1])) % wheel for s in settings(new)}) == wheel:
                 return True
     return False
+
+
+def subsets(items):
+    """All tuples of some of the items, in their sequence."""
+    items = list(items)
+    return [part for many in range(len(items) + 1) for part in itertools.combinations(items, many)]
+
+
+def obeys(rows):
+    """Whether sets of dials, for each dial, are an order."""
+    return all(i not in row and all(k in row for j in row for k in rows[j]) for i, row in enumerate(rows))
+
+
+def all_orders(size):
+    """All orders of a size, ascending."""
+    parts = sorted(subsets(range(size)))
+    return [rows for rows in itertools.product(parts, repeat=size) if obeys(rows)]
+
+
+def tied(ranges, i, j):
+    return math.gcd(ranges[i], ranges[j]) > 1
+
+
+def fits(ranges, order):
+    return all(not tied(ranges, i, j) or i in order[j] or j in order[i] for i, j in itertools.combinations(range(len(ranges)), 2))
+
+
+def order_depth(order):
+    return max(heights(order), default=0)
+
+
+def is_row_of_pairs(row, pairs):
+    """Whether each next one, round about, is told below the one ahead of it."""
+    return all((row[k - 1], row[k]) in pairs for k in range(len(row)))
+
+
+def is_lot_by_words(wheel, members):
+    """Whether ascending divisors are a lot."""
+    return 1 in members and wheel in members and all(
+        math.gcd(a, b) in members and math.lcm(a, b) in members for a in members for b in members)
+
+
+def lots_by_words(wheel):
+    """All lots of a wheel, ascending."""
+    return sorted(part for part in subsets(d for d in range(1, wheel + 1) if wheel % d == 0) if is_lot_by_words(wheel, part))
+
+
+def firm_by_words(lot):
+    """The members greater than 1 that are not the lcm of some smaller ones."""
+    found = []
+    for member in lot:
+        smaller = [other for other in lot if other < member]
+        if member > 1 and not any(math.lcm(*part) == member for part in subsets(smaller) if part):
+            found.append(member)
+    return tuple(found)

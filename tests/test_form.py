@@ -28,7 +28,8 @@ METHODS = set("""append clear copy count endswith extend find get index insert i
     title capitalize swapcase casefold center expandtabs removeprefix removesuffix rindex isascii isdecimal isnumeric istitle
     isidentifier isprintable translate""".split())
 LEVEL = (ast.Import, ast.ImportFrom, ast.FunctionDef, ast.ClassDef, ast.Assign, ast.AnnAssign)
-FUNCTIONS = (ast.FunctionDef, ast.Lambda)
+AT_ONCE = ("list", "tuple", "dict", "sorted", "sum", "min", "max", "any", "all", "enumerate", "zip")
+PARENTS = {child: node for tree in TREES.values() for node in ast.walk(tree) for child in ast.iter_child_nodes(node)}
 
 
 def nodes(kind):
@@ -171,3 +172,80 @@ class Form(unittest.TestCase):
             for value in values:
                 if isinstance(value, ast.Call) and isinstance(value.func, ast.Name):
                     self.assertNotIn(value.func.id, ("zip", "range", "enumerate", "reversed", "map", "iter"), (path, node.lineno))
+
+    def calls(self, names):
+        """All calls of functions or methods with these names."""
+        for path, node in nodes(ast.Call):
+            name = node.func.id if isinstance(node.func, ast.Name) else getattr(node.func, "attr", None)
+            if name in names:
+                yield path, node
+
+    def iterated_at_once(self, node):
+        parent = PARENTS[node]
+        if isinstance(parent, (ast.For, ast.comprehension)):
+            return parent.iter is node
+        return isinstance(parent, ast.YieldFrom) or isinstance(parent, ast.Call) and getattr(parent.func, "id", None) in AT_ONCE
+
+    def test_generators_are_iterated_at_once(self):
+        names = {}
+        for path, node in nodes(ast.FunctionDef):
+            own = [part for part in ast.walk(node) if isinstance(part, (ast.Yield, ast.YieldFrom))]
+            names.setdefault(node.name, []).append(bool(own))
+        generators = {name for name, kinds in names.items() if any(kinds)}
+        for name in generators:
+            self.assertTrue(all(names[name]) and name not in METHODS, name)
+        for path, node in self.calls(generators | {"product", "combinations", "permutations", "map", "chain", "pairwise"}):
+            self.assertTrue(self.iterated_at_once(node), (path, node.lineno))
+        for path, node in self.calls(generators):
+            for value in node.args:
+                self.assertIsInstance(value, (ast.Name, ast.Attribute, ast.Constant, ast.Tuple), (path, node.lineno))
+        for path, node in nodes(ast.Name):
+            if node.id in generators and isinstance(node.ctx, ast.Load):
+                self.assertTrue(isinstance(PARENTS[node], ast.Call) and PARENTS[node].func is node, (path, node.lineno))
+
+    def is_use_of_a_set(self, node):
+        """Whether a set, or the name of a stored one, stands where a set may stand."""
+        parent = PARENTS[node]
+        if isinstance(parent, ast.Compare):
+            return node in parent.comparators or isinstance(parent.ops[0], (ast.Eq, ast.NotEq))
+        if isinstance(parent, ast.Call):
+            return getattr(parent.func, "id", None) in ("sorted", "len") and parent.args == [node]
+        return isinstance(parent, (ast.If, ast.While)) and parent.test is node
+
+    def test_sets_stand_where_they_may(self):
+        found = [(path, node) for path, node in nodes((ast.Set, ast.SetComp))]
+        found += [(path, node) for path, node in nodes(ast.Call) if getattr(node.func, "id", None) in ("set", "frozenset")]
+        for path, node in found:
+            parent = PARENTS[node]
+            if not isinstance(parent, ast.Assign):
+                self.assertTrue(self.is_use_of_a_set(node), (path, node.lineno))
+                continue
+            name = parent.targets[0].id
+            function = parent
+            while not isinstance(function, ast.FunctionDef):
+                function = PARENTS[function]
+            uses = [part for part in ast.walk(function) if isinstance(part, ast.Name) and part.id == name]
+            self.assertEqual([part for part in uses if isinstance(part.ctx, ast.Store)], parent.targets, (path, node.lineno))
+            for part in uses:
+                if part is not parent.targets[0]:
+                    user = PARENTS[part]
+                    called = isinstance(user, ast.Attribute) and user.attr in ("add", "discard") and isinstance(PARENTS[PARENTS[user]], ast.Expr)
+                    self.assertTrue(called or self.is_use_of_a_set(part), (path, part.lineno))
+
+    def test_names_of_the_library_are_only_called(self):
+        for path, tree in TREES.items():
+            names = {alias.name for node in tree.body if isinstance(node, ast.ImportFrom) and node.module in LIBRARY for alias in node.names}
+            for node in ast.walk(tree):
+                if isinstance(node, ast.Name) and node.id in names:
+                    self.assertTrue(isinstance(PARENTS[node], ast.Call) and PARENTS[node].func is node, (path, node.lineno))
+                    self.assertEqual(PARENTS[node].keywords, [], (path, node.lineno))
+
+    def test_classes(self):
+        """Own names begin plainly, no name is a method and an attribute of one class, and no class has __eq__ or __len__."""
+        for path, node in nodes(ast.ClassDef):
+            methods = [part.name for part in node.body if isinstance(part, ast.FunctionDef)]
+            self.assertEqual(len(methods), len(set(methods)), (path, node.name))
+            stored = {part.attr for part in ast.walk(node) if isinstance(part, ast.Attribute) and isinstance(part.ctx, ast.Store)}
+            self.assertFalse(stored & set(methods), (path, node.name))
+            self.assertFalse(stored & METHODS, (path, node.name))
+            self.assertFalse({name for name in methods if name.startswith("__")} - {"__init__"}, (path, node.name))

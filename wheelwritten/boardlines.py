@@ -25,9 +25,9 @@ def board_line(board):
     return " ".join(fields)
 
 
-def _wheel_in(fields):
-    """The wheel that the first two fields tell, else InvalidText."""
-    if fields[0] != "wheel":
+def wheel_in(fields, word):
+    """The wheel that the first two fields tell, the word and the wheel with a colon. Else InvalidText."""
+    if fields[0] != word:
         raise InvalidText(0, 0)
     if len(fields) < 2 or not fields[1].endswith(":"):
         raise InvalidText(0, 1)
@@ -52,7 +52,7 @@ def read_board(text):
     """The board with this line, else InvalidText for the first wrong field."""
     need(isinstance(text, str), "text")
     fields = text.split(" ")
-    wheel = _wheel_in(fields)
+    wheel = wheel_in(fields, "wheel")
     dials = []
     for k in range(2, len(fields)):
         dial = _dial_in(wheel, fields[k])

@@ -1,7 +1,9 @@
 """Faults: what shows that a board is no numbering."""
 
+from wheelwritten.boardchecker import lets_board
 from wheelwritten.boards import ranges_of
 from wheelwritten.dividing import product_of, turns_in
+from wheelwritten.errors import NoNumbering
 from wheelwritten.laidfigures import figures_laid
 from wheelwritten.laying import is_numbering, laying_of
 
@@ -37,3 +39,11 @@ def fault_of(board):
         one, other = pair
         return "twice", one, other
     return "blind", stuck_at(board)
+
+
+def need_numbering(board):
+    """InvalidPaper of lets_board for any value that is no board, NoNumbering for a board that is no numbering."""
+    lets_board(board)
+    fault = fault_of(board)
+    if fault is not None:
+        raise NoNumbering(fault)
