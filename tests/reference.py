@@ -182,3 +182,103 @@ def firm_by_words(lot):
         if member > 1 and not any(math.lcm(*part) == member for part in subsets(smaller) if part):
             found.append(member)
     return tuple(found)
+
+
+def ties(ranges):
+    return [(i, j) for i, j in itertools.combinations(range(len(ranges)), 2) if tied(ranges, i, j)]
+
+
+def fewest_colours(ranges):
+    """By trying all tuples of numbers."""
+    for many in range(len(ranges) + 1):
+        if any(all(row[i] != row[j] for i, j in ties(ranges)) for row in itertools.product(range(many), repeat=len(ranges))):
+            return many
+
+
+def most_untied(ranges):
+    pairs = set(ties(ranges))
+    return max(len(part) for part in subsets(range(len(ranges))) if not pairs & set(itertools.combinations(part, 2)))
+
+
+def tree_verdict(ranges, many, thing, way=(), groups=None, apart=()):
+    """How many cliques a tree has, or the pair (word, way) of what is wrong with it; by sets of dials."""
+    if groups is None:
+        groups = [frozenset([dial]) for dial in range(len(ranges))]
+    named = {min(group): group for group in groups}
+
+    def linked(one, other):
+        return any(tied(ranges, i, j) or {i, j} in [{a, b} for left, right in apart for a in left for b in right]
+                   for i in named[one] for j in named[other])
+
+    def is_name(value):
+        return type(value) is int and value in named
+    if type(thing) is not tuple or not thing or type(thing[0]) is not str or (thing[0], len(thing)) not in (("clique", 2), ("case", 5)):
+        return "shape", way
+    if thing[0] == "clique":
+        names = thing[1]
+        if type(names) is not tuple or not all(map(is_name, names)) or list(names) != sorted(set(names)):
+            return "names", way
+        if len(names) < many + 1:
+            return "few", way
+        return 1 if all(linked(*pair) for pair in itertools.combinations(names, 2)) else ("untied", way)
+    one, other, same, unlike = thing[1:]
+    if not is_name(one) or not is_name(other) or one >= other:
+        return "names", way
+    if linked(one, other):
+        return "tied", way
+    merged = [group for group in groups if group not in (named[one], named[other])] + [named[one] | named[other]]
+    first = tree_verdict(ranges, many, same, way + (0,), merged, apart)
+    if type(first) is tuple:
+        return first
+    second = tree_verdict(ranges, many, unlike, way + (1,), groups, apart + ((named[one], named[other]),))
+    return second if type(second) is tuple else first + second
+
+
+def forced(ranges, x, y):
+    """What the pair (x, y) of tied dials forces, by the words of the definition."""
+    found = set()
+    for z in range(len(ranges)):
+        if z not in (x, y):
+            if tied(ranges, x, z) and not tied(ranges, y, z):
+                found.add((x, z))
+            if tied(ranges, z, y) and not tied(ranges, x, z):
+                found.add((z, y))
+    return found
+
+
+def forced_class(ranges, pair):
+    found = {pair}
+    while True:
+        more = found | {new for one in found for new in forced(ranges, *one)}
+        if more == found:
+            return found
+        found = more
+
+
+def turned_orders(ranges):
+    """All orders whose pairs of comparable dials are just the tied ones."""
+    pairs = ties(ranges)
+    size = len(ranges)
+    found = []
+    for ways in itertools.product((0, 1), repeat=len(pairs)):
+        rows = [[] for _ in range(size)]
+        for (i, j), way in zip(pairs, ways):
+            rows[(i, j)[way]].append((j, i)[way])
+        rows = tuple(tuple(sorted(row)) for row in rows)
+        if obeys(rows):
+            found.append(rows)
+    return found
+
+
+def cross(board, other):
+    return tuple(tuple(a * b % board[0] for _, b in other[1]) for _, a in board[1])
+
+
+def joins(board, other):
+    return [(i, j) for i, row in enumerate(cross(board, other)) for j, product in enumerate(row) if i != j and product]
+
+
+def longest_join_row(size, pairs):
+    """The steps of the longest row of joins, None if joins lead back to a dial."""
+    come = reach([[j for i, j in pairs if i == dial] for dial in range(size)])
+    return None if any(dial in row for dial, row in enumerate(come)) else order_depth(come)

@@ -3,7 +3,7 @@
 import itertools
 import types
 
-from tests.common import (BOTH, CLOCK, DIGITS, NO_NUMBERS, NO_TUPLES, NONE, ODD, RESTS, SIX, Case, great_numberings,
+from tests.common import (CLOCK, DIGITS, NO_NUMBERS, NO_TUPLES, NONE, ODD, RESTS, Case, great_numberings,
                           grown, small_boards, small_numberings)
 from tests.reference import carries, hands, is_whole, reach, whole_layings
 from wheelwritten.laidreach import always_ahead, laid_order, left_without

@@ -27,8 +27,8 @@ def place_of(board, setting):
     return place_by(board, setting)
 
 
-def _setting_numbered(ranges, number):
-    """The setting with this position among all settings, ascending."""
+def setting_numbered(ranges, number):
+    """The setting with this position among all settings, ascending; ranges may have 1, too."""
     figures = []
     rest = number
     for many in reversed(ranges):
@@ -41,7 +41,7 @@ def settings_of(board):
     """A generator of all settings, ascending."""
     ranges = ranges_of(board)
     for number in range(product_of(ranges)):
-        yield _setting_numbered(ranges, number)
+        yield setting_numbered(ranges, number)
 
 
 def is_same_board(board, other, as_sets):

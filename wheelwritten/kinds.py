@@ -31,6 +31,11 @@ def is_pair(thing):
     return isinstance(thing, tuple) and len(thing) == 2
 
 
+def is_pair_under(bound, thing):
+    """Whether thing is a pair of numbers less than bound."""
+    return is_pair(thing) and is_less(bound, thing[0]) and is_less(bound, thing[1])
+
+
 def dial_wrong(wheel, thing):
     """The word for what keeps thing from being a dial of the wheel, None for a dial."""
     if not is_pair(thing):

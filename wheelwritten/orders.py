@@ -2,7 +2,7 @@
 
 from wheelwritten.dividing import product_of
 from wheelwritten.errors import InvalidPaper, Ringed
-from wheelwritten.kinds import is_less, is_pair, is_set
+from wheelwritten.kinds import is_less, is_pair_under, is_set
 from wheelwritten.searching import come_to, shortest_row
 from wheelwritten.ties import ties_of
 from wheelwritten.usable import need
@@ -47,14 +47,9 @@ def lets_order(size, thing):
     return sum([len(row) for row in thing])
 
 
-def _is_told_pair(size, thing):
-    """Whether thing is a pair of numbers less than size."""
-    return is_pair(thing) and is_less(size, thing[0]) and is_less(size, thing[1])
-
-
 def order_of(size, pairs):
     """The order with these pairs (i, j), j below i, and what follows from them alone. Else Ringed."""
-    need(isinstance(pairs, tuple) and all([_is_told_pair(size, pair) for pair in pairs]), "pairs")
+    need(isinstance(pairs, tuple) and all([is_pair_under(size, pair) for pair in pairs]), "pairs")
     steps = [[] for _ in range(size)]
     for one, other in pairs:
         steps[one].append(other)
