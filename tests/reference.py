@@ -1,9 +1,10 @@
 """What the document defines, computed from lists of all settings or from the words of the definitions."""
 
+import functools
 import itertools
 import math
 
-from tests.common import settings, table
+from tests.common import place, settings, table
 
 
 def written_in(board):
@@ -188,11 +189,19 @@ def ties(ranges):
     return [(i, j) for i, j in itertools.combinations(range(len(ranges)), 2) if tied(ranges, i, j)]
 
 
+def all_partings(size):
+    """All ways of parting dials into groups: tuples of numbers, each at most one more than those ahead of it."""
+    rows = [()]
+    for _ in range(size):
+        rows = [row + (number,) for row in rows for number in range(max(row, default=-1) + 2)]
+    return rows
+
+
+@functools.lru_cache(maxsize=None)
 def fewest_colours(ranges):
-    """By trying all tuples of numbers."""
-    for many in range(len(ranges) + 1):
-        if any(all(row[i] != row[j] for i, j in ties(ranges)) for row in itertools.product(range(many), repeat=len(ranges))):
-            return many
+    """By trying all ways of parting the dials."""
+    pairs = ties(ranges)
+    return min(len(set(row)) for row in all_partings(len(ranges)) if all(row[i] != row[j] for i, j in pairs))
 
 
 def most_untied(ranges):
@@ -282,3 +291,58 @@ def longest_join_row(size, pairs):
     """The steps of the longest row of joins, None if joins lead back to a dial."""
     come = reach([[j for i, j in pairs if i == dial] for dial in range(size)])
     return None if any(dial in row for dial, row in enumerate(come)) else order_depth(come)
+
+
+def summed(plan):
+    """The dials in the sequence of their sums."""
+    return tuple(single[1] for single in plan if single[0] == "sum")
+
+
+def exponent_at(board, plan, d, c):
+    """The exponent of a plan at two settings, by the words of the definition."""
+    sum_of = {single[1]: k for k, single in enumerate(plan) if single[0] == "sum"}
+    total = 0
+    for k, single in enumerate(plan):
+        if single[0] == "sum":
+            total += single[2] * d[single[1]] * c[single[1]]
+        else:
+            e = [c[dial] if sum_of[dial] < k else d[dial] for dial in range(len(d))]
+            total += sum(factor * e[i] * e[j] for i, j, factor in single[1])
+    return total % board[0]
+
+
+def is_right(board, other, plan, pairs=None):
+    """Whether the exponents of a plan are the products of the places, at all settings or at these pairs of them."""
+    if pairs is None:
+        pairs = itertools.product(settings(board), repeat=2)
+    return all(exponent_at(board, plan, d, c) == place(board, d) * place(other, c) % board[0] for d, c in pairs)
+
+
+def plan_verdict(board, other, plan):
+    """How many twists a tuple of passes has if it is a right plan, else the pair of what is wrong with it; by the words."""
+    table, size, wheel = cross(board, other), len(board[1]), board[0]
+    for dial in range(size):
+        if [single[1] for single in plan if single[0] == "sum"].count(dial) != 1:
+            return "sums", dial
+    for dial in range(size):
+        if ("sum", dial, table[dial][dial]) not in plan:
+            return "factor", dial
+    rows = []
+    for k, single in enumerate(plan):
+        if single[0] == "twist":
+            ahead = summed(plan[:k])
+            rows += [(i, "c" if i in ahead else "d", j, "c" if j in ahead else "d", factor) for i, j, factor in single[1]]
+            rows += [(j, b, i, a, factor) for i, a, j, b, factor in rows[len(rows) - len(single[1]):]]
+    for word, a, b in (("cross", "d", "c"), ("ahead", "d", "d"), ("behind", "c", "c")):
+        for i, j in itertools.product(range(size), repeat=2):
+            wanted = table[i][j] if word == "cross" else 0
+            if (i != j if word == "cross" else i < j):
+                if (sum(row[4] for row in rows if row[:4] == (i, a, j, b)) - wanted) % wheel:
+                    return word, (i, j)
+    return sum(single[0] == "twist" for single in plan)
+
+
+def fewest_gaps(size, pairs, sequence):
+    """The least number of gaps between sums such that each join covers one, by trying all sets of gaps."""
+    spans = [range(sequence.index(j), sequence.index(i)) for i, j in pairs]
+    return min(len(part) for part in subsets(range(size - 1 if size else 0)) if all(set(part) & set(span) for span in spans))
