@@ -1,6 +1,7 @@
 """The whole interface: what [2] and [12] promise of all functions and classes, asked of each of them by one table."""
 
 import copy
+import doctest
 import importlib
 import inspect
 import pathlib
@@ -8,6 +9,7 @@ import re
 
 from tests.common import CLOCK, ODD, RESTS, Case, shape
 from tests.interface import CLASSES, FIVE, FUNCTIONS, LOG, MIRROR, NET, ORDER, PAIR, PASSES, PLAN, TWIN, TWOS, VALUES
+from wheelwritten import errors
 from wheelwritten.bench import Bench
 from wheelwritten.boardclasses import Board
 from wheelwritten.desk import Desk
@@ -18,6 +20,7 @@ from wheelwritten.rangeclasses import Ranges
 from wheelwritten.runclasses import Runner
 from wheelwritten.toneclasses import Tones
 
+README = pathlib.Path(__file__).resolve().parent.parent / "README.md"
 DOCUMENT = pathlib.Path(__file__).resolve().parent.parent.parent / "shared" / "DOC.md"
 PASSED_IN = ("board", "numbering", "ranges", "wheel", "size", "many", "prime")
 WRONG = [None]
@@ -134,10 +137,50 @@ class Names(Case):
                 kinds += [(part[1], *method) for method in re.findall(r"(\w+)\((.*?)\)", part[2].replace(",", ""))]
             elif row:
                 rows += [(row[2], name, words.replace(",", "")) for name, words in re.findall(r"(\w+)\((.*?)\)", row[1])]
-        self.assertEqual(rows, sorted(rows, key=lambda row: rows.index(row)))
+        self.assertEqual(len(rows), len(set(rows)))
         self.assertEqual(set(rows), {(module, row[0], row[1]) for module, part in FUNCTIONS.items() for row in part})
         self.assertEqual(classes, [(name, row[0], row[1]) for name, row in CLASSES.items()])
         self.assertEqual(kinds, [(name, part[0], part[1]) for name, row in CLASSES.items() for part in row[3]])
+
+
+class Examples(Case):
+
+    def names(self):
+        """All functions and classes of the interface, by their names."""
+        found = {function.__name__: function for function, _, _, _ in functions()}
+        found.update({name: type(made(name)) for name in CLASSES})
+        return found
+
+    def raises_as_told(self, text, names, wanted):
+        """The statement raises the error that the document writes with its fields."""
+        name, words = re.match(r"raises (\w+)\((.*)\)", wanted).groups()
+        fields = eval("dict(" + words + ")", {})
+        self.raises(getattr(errors, name), fields, eval, text, names)
+
+    def test_the_document(self):
+        """Each example of the document, as it stands there."""
+        if not DOCUMENT.exists():
+            self.skipTest("the document is not there")
+        names, asked = self.names(), 0
+        rows = DOCUMENT.read_text().split("\n")
+        for k, row in enumerate(rows):
+            if not row.startswith("    >>> "):
+                continue
+            text, wanted = row[8:], rows[k + 1].strip()
+            if wanted == "" or wanted.startswith(">>> "):
+                exec(text, names)
+            elif wanted.startswith("raises "):
+                self.raises_as_told(text, names, wanted)
+                asked += 1
+            else:
+                self.same(eval(text, names), eval(wanted, {}))
+                asked += 1
+        self.assertGreater(asked, 80)
+
+    def test_the_readme(self):
+        failed, asked = doctest.testfile(str(README), module_relative=False)
+        self.assertEqual(failed, 0)
+        self.assertGreater(asked, 15)
 
 
 class Calls(Case):
