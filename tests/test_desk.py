@@ -170,7 +170,7 @@ class Desks(Case):
         for text in ("", " ", "?", "Board", "board ", " board", "boards", "lot ", "reach 0", "depth 1", "done ", "undo 1", "undo ", "UNDO", "try", "try ", "try undo", "try board",
                      "try try twin", "try  twin", "try twin ", "try drop", "write", "write ", "write 12", "write 011", "write -1", "write +1", "write 1 ", "write  1", "write 1 1",
                      "write x", "write 1" + "0" * 99, "place", "place ", "place 0 0", "place 0 0 0 0", "place 0 3 0", "place 0 0 2", "place 00 0 0", "place 0  0 0", "place 0 0 0 ",
-                     "place -", "place x 0 0", "place 0 0 -0", "twin ", "drop", "drop x", "drop 01", "most x", "most ", "most - -", "below 2", "weigh 1", "weigh 1 10 3", "events", "?" * 4000):
+                     "place -", "place x 0 0", "place 0 0 -0", "twin ", "drop", "drop x", "drop 01", "most x", "most ", "most - -", "below 2", "weigh 1", "Write 11", "wrote 11", "write.11", "Place 0 0 0", "placed0 0 0", "Try twin", "trytwin", "weigh 1 10 3", "events", "?" * 4000):
             self.same(desk.say(text), "?")
         self.same([desk.say("board"), desk.say("done")], ["wheel 12: 2@6 3@4 2@1", "0"])
 

@@ -224,6 +224,9 @@ class NetChecker(Case):
         for wrong in NO_TUPLES + ((), (2, 1), ((2, 2),), ((2, True),), ((True, 1),), ([2, 1],), [(2, 1)], ((2, 1), (2, 1)), ((1, 0), (2, 1)), ((2, 1, 0),), ((2, "1"),)):
             self.rejects("wires", (1, 0), lets_net, CLOCK, (NET[0], ((0, wrong), None)))
         self.rejects("wires", (1, 0), lets_net, (12, ((2, 6), (3, 4), (2, 1))), (NET[0], ((1, ((2, 1),)),)))
+        for wrong in (((False, 1),), ((0, True),), ((0, 1), (True, 0))):
+            self.rejects("wires", (1, 0), lets_net, DIGITS, (((0, ()),), ((1, wrong),)))
+        self.rejects("wires", (2, 0), lets_net, DIGITS, (((0, ()),), ((1, ((0, 1),)),), ((2, ((True, 1),)),)))
         self.rejects("early", (0, 0), lets_net, CLOCK, (NET[1][:1] + (None,),))
         self.rejects("early", (0, 0), lets_net, CLOCK, NET[::-1])
         self.rejects("lacking", 0, lets_net, CLOCK, ())

@@ -18,10 +18,10 @@ def _need_rows(wheel, one, pattern):
 def agreements(wheel, one, pattern):
     """The tuple with, for each place t, how many places r there are where pattern[r] is the element of one at r + t."""
     _need_rows(wheel, one, pattern)
-    asked = [place for place in range(wheel) if pattern[place] is not None]
     counts = []
     for shift in range(wheel):
-        counts.append(len([place for place in asked if one[(place + shift) % wheel] == pattern[place]]))
+        # What is None in the pattern is equal to no integer.
+        counts.append(len([place for place in range(wheel) if one[(place + shift) % wheel] == pattern[place]]))
     return tuple(counts)
 
 

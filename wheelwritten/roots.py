@@ -43,7 +43,7 @@ def _is_root(prime, wheel, number):
 
 
 def is_root(prime, wheel, thing):
-    """Whether thing is a root of prime and wheel."""
+    """Whether thing is a root of prime and wheel; NotUsable unless wheel is a wheel."""
     need(is_wheel(wheel), "wheel")
     return is_less(prime, thing) and _divides_one_less(prime, wheel) and _is_root(prime, wheel, thing)
 

@@ -1,7 +1,7 @@
 """Transforms of values, by the double sum."""
 
 from wheelwritten.dividing import inverse_of
-from wheelwritten.kinds import is_tuple_under, is_wheel
+from wheelwritten.kinds import is_tuple_under
 from wheelwritten.roots import is_root, power_modulo
 from wheelwritten.usable import need
 
@@ -38,27 +38,21 @@ def scaled_down(prime, wheel, values):
     return tuple([value * inverse % prime for value in values])
 
 
-def _need_wheel_root(prime, wheel, root):
-    """NotUsable unless wheel is a wheel, and root a root of prime and wheel."""
-    need(is_wheel(wheel), "wheel")
-    need(is_root(prime, wheel, root), "root")
-
-
 def power_table(prime, wheel, root):
     """The tuple of the powers of the root by all places."""
-    _need_wheel_root(prime, wheel, root)
+    need(is_root(prime, wheel, root), "root")
     return powers_by(prime, wheel, root)
 
 
 def transform(prime, wheel, root, values):
     """The transform of the values."""
-    _need_wheel_root(prime, wheel, root)
+    need(is_root(prime, wheel, root), "root")
     need(are_values(prime, wheel, values), "values")
     return transformed(prime, wheel, root, values)
 
 
 def back_transform(prime, wheel, root, values):
     """The values whose transform values is."""
-    _need_wheel_root(prime, wheel, root)
+    need(is_root(prime, wheel, root), "root")
     need(are_values(prime, wheel, values), "values")
     return scaled_down(prime, wheel, transformed(prime, wheel, turned_root(prime, wheel, root), values))
